@@ -1,0 +1,1 @@
+"""Kinds of objects, and what all modules need to judge values."""

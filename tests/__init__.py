@@ -1,0 +1,1 @@
+"""Tests of teamtells, one file for each part of the document."""

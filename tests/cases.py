@@ -1,0 +1,130 @@
+"""What the tests share: values of all sorts, and a case that tests what is refused."""
+
+import unittest
+
+from teamtells.base.kinds import Kind
+from teamtells.base.made import flag_kind, slot_kind
+from teamtells.errors import (
+    InvalidKind, InvalidNumber, NothingToUndo, ParseError, Refused, TooMany, UnknownName,
+)
+
+KEPT = {
+    ParseError: "at",
+    InvalidNumber: "given",
+    UnknownName: "wanted",
+    NothingToUndo: "many",
+    TooMany: "limit",
+    Refused: "claim",
+}
+
+SIXTY = 10 ** 60 - 1
+SIXTY_ONE = 10 ** 60
+
+
+def nested(value, depth, wrap):
+    """The value inside so many wraps."""
+    for _ in range(depth):
+        value = wrap(value)
+    return value
+
+
+def integers():
+    small = [-100, -12, -2, -1, 0, 1, 2, 3, 4, 5, 6, 7, 8, 10, 11, 12, 13, 14, 98, 99, 100, 101]
+    great = [10 ** 59, SIXTY, SIXTY_ONE, 10 ** 99, 10 ** 100 - 1]
+    return small + great + [-number for number in great]
+
+
+def strings():
+    return [
+        "", "a", "z", "add", "set", "sets", "abcdefgh", "abcdefghi", "A", "Set", "seT", "a1", "0", "1",
+        " ", " set", "set ", "se t", "set\n", "\nset", "\n", "se-t", "se_t", "`", "{", "@", "None", "True",
+        "a" * 2000, "x\n" * 1000, "~" * 2000,
+    ]
+
+
+def tuples():
+    return [
+        (), (0,), (1,), (0, 0), (0, 1), (1, 0), (0, 1, 2), (True, False), (0, True), (None,), ("set",), ("set", 0),
+        ((0, 0),), ((0, 0), (1, 0)), ((0, 0), (0, True)), ((0, 0), [1, 0]), (0,) * 12, tuple(range(12)),
+        ((0, 0),) * 12, ((0, 0),) * 13, (SIXTY, SIXTY_ONE), nested(0, 8, lambda value: (value,)),
+    ]
+
+
+def lists():
+    return [
+        [], [0], [1, 0], [0, 1, 2], ["set"], [None], [(0, 0), (1, 0)], [[0, 0], [1, 0]], [{}], [()],
+        nested(0, 8, lambda value: [value]), nested([], 7, lambda value: [value, value]),
+    ]
+
+
+def dicts():
+    return [
+        {}, {"set": 0}, {"set": "set"}, {"set": None}, {"set": ()}, {"set": []}, {"set": ((0, 0),)},
+        {"set": [(0, 0), (1, 0)]}, {"set": {"set": 0}}, {0: 0}, {0: "set"}, {None: None}, {True: ((0, 0),)},
+        {("set",): ((0, 0),)}, {"": ((0, 0),)}, {"SET": ((0, 0),)}, {"set": "a", "other": "b"},
+        nested(0, 8, lambda value: {"set": value}), nested((), 7, lambda value: {"set": [value]}),
+    ]
+
+
+def objects():
+    return [
+        flag_kind(), slot_kind(2), (flag_kind(),), [flag_kind()], {"set": flag_kind()}, {"set": ((0, flag_kind()),)},
+        (flag_kind(), slot_kind(2)), InvalidKind("no kind"), InvalidNumber(3), [TooMany(6)],
+    ]
+
+
+def values():
+    """Values of all sorts that [0.4] names, new ones each time."""
+    return integers() + [True, False, None] + strings() + tuples() + lists() + dicts() + objects()
+
+
+def is_integer(value):
+    return isinstance(value, int) and not isinstance(value, bool)
+
+
+def values_but_numbers(least, most):
+    """All values but the integers from least to most."""
+    return [value for value in values() if not (is_integer(value) and least <= value <= most)]
+
+
+def values_but(*right):
+    """All values but these, in which True is not 1."""
+    texts = [shown(value) for value in right]
+    return [value for value in values() if shown(value) not in texts]
+
+
+def values_but_kinds():
+    return [value for value in values() if not isinstance(value, Kind)]
+
+
+def values_but_texts(*texts):
+    return [value for value in values() if not (isinstance(value, str) and value in texts)]
+
+
+def shown(value):
+    """A text that differs for values that differ, also inside kinds."""
+    if isinstance(value, Kind):
+        return f"Kind({value.operations!r})"
+    if isinstance(value, (list, tuple)):
+        return f"{value.__class__.__name__}({[shown(part) for part in value]})"
+    if isinstance(value, dict):
+        return f"dict({[(shown(key), shown(value[key])) for key in value]})"
+    return repr(value)
+
+
+class Case(unittest.TestCase):
+    def refuses(self, error, kept, call, *arguments):
+        """The call raises just this error, which keeps just this, and changes no argument."""
+        before = shown(arguments)
+        with self.subTest(call=getattr(call, "__name__", call), arguments=before[:200]):
+            with self.assertRaises(error) as caught:
+                call(*arguments)
+            self.assertIs(caught.exception.__class__, error)
+            if error in KEPT:
+                found = getattr(caught.exception, KEPT[error])
+                self.assertEqual(shown(found), shown(kept))
+            self.assertEqual(shown(arguments), before)
+
+    def same(self, found, wanted):
+        """Equal, also in the sorts of all values inside, in which True is not 1."""
+        self.assertEqual(shown(found), shown(wanted))
