@@ -7,6 +7,8 @@ from teamtells.base.made import flag_kind, slot_kind
 from teamtells.errors import (
     InvalidKind, InvalidNumber, NothingToUndo, ParseError, Refused, TooMany, UnknownName,
 )
+from teamtells.plans.plans import Plan
+from teamtells.plans.telling import Watch
 
 KEPT = {
     ParseError: "at",
@@ -67,9 +69,12 @@ def dicts():
 
 
 def objects():
+    flag = flag_kind()
+    race = Plan(flag, 0, ("set",), ("set",))
     return [
-        flag_kind(), slot_kind(2), (flag_kind(),), [flag_kind()], {"set": flag_kind()}, {"set": ((0, flag_kind()),)},
-        (flag_kind(), slot_kind(2)), InvalidKind("no kind"), InvalidNumber(3), [TooMany(6)],
+        flag, slot_kind(2), (flag,), [flag], {"set": flag}, {"set": ((0, flag),)}, (flag, slot_kind(2)),
+        race, (race,), [race, race], {"set": race}, ("plan", race), Watch(race), ((Watch(race),),),
+        InvalidKind("no kind"), InvalidNumber(3), [TooMany(6)],
     ]
 
 
@@ -97,6 +102,10 @@ def values_but_kinds():
     return [value for value in values() if not isinstance(value, Kind)]
 
 
+def values_but_plans():
+    return [value for value in values() if not isinstance(value, Plan)]
+
+
 def values_but_texts(*texts):
     return [value for value in values() if not (isinstance(value, str) and value in texts)]
 
@@ -105,6 +114,10 @@ def shown(value):
     """A text that differs for values that differ, also inside kinds."""
     if isinstance(value, Kind):
         return f"Kind({value.operations!r})"
+    if isinstance(value, Plan):
+        return f"Plan({shown(value.kind)}, {value.start!r}, {value.teams!r}, {value.threads!r})"
+    if isinstance(value, Watch):
+        return f"Watch({value.order!r}, {value})"
     if isinstance(value, (list, tuple)):
         return f"{value.__class__.__name__}({[shown(part) for part in value]})"
     if isinstance(value, dict):
@@ -113,12 +126,12 @@ def shown(value):
 
 
 class Case(unittest.TestCase):
-    def refuses(self, error, kept, call, *arguments):
+    def refuses(self, error, kept, call, *arguments, **keywords):
         """The call raises just this error, which keeps just this, and changes no argument."""
         before = shown(arguments)
-        with self.subTest(call=getattr(call, "__name__", call), arguments=before[:200]):
+        with self.subTest(call=getattr(call, "__name__", call), arguments=before[:200], keywords=shown(keywords)[:200]):
             with self.assertRaises(error) as caught:
-                call(*arguments)
+                call(*arguments, **keywords)
             self.assertIs(caught.exception.__class__, error)
             if error in KEPT:
                 found = getattr(caught.exception, KEPT[error])
@@ -128,3 +141,17 @@ class Case(unittest.TestCase):
     def same(self, found, wanted):
         """Equal, also in the sorts of all values inside, in which True is not 1."""
         self.assertEqual(shown(found), shown(wanted))
+
+    def refuses_each(self, call, right, wrong):
+        """Each argument is refused for its wrong values, also if all behind it are wrong, too.
+
+        For each of the right arguments, `wrong` has a pair of an error and of the values for which it is raised, or
+        None if every value is right there.
+        """
+        for place, pair in enumerate(wrong):
+            if pair is None:
+                continue
+            behind = [right[at] if wrong[at] is None else wrong[at][1][-1] for at in range(place + 1, len(right))]
+            for value in pair[1]:
+                self.refuses(pair[0], value, call, *right[:place], value, *right[place + 1:])
+                self.refuses(pair[0], value, call, *right[:place], value, *behind)

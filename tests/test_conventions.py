@@ -1,62 +1,100 @@
 """The conventions [0.1] to [0.6], and the interface: names, arguments, files."""
 
+import importlib
 import inspect
 import unittest
 
-from teamtells.base import kinds, made
 from teamtells.base.kinds import Kind, beside, cut_kind, image_of, is_map, is_name
 from teamtells.base.made import flag_kind
 from teamtells.errors import InvalidNumber, InvalidOperation, UnknownName
+from teamtells.plans.plans import Plan
 from tests.cases import Case, shown, values
 
 FUNCTIONS = {
-    kinds.is_name: ("value",),
-    kinds.beside: ("one", "other"),
-    kinds.cut_kind: ("kind", "state"),
-    kinds.is_map: ("kind", "other", "value"),
-    kinds.image_of: ("kind",),
+    "teamtells.base.kinds": {
+        "is_name": "(value)", "beside": "(one, other)", "cut_kind": "(kind, state)", "is_map": "(kind, other, value)",
+        "image_of": "(kind)",
+    },
+    "teamtells.base.made": {
+        "cell_kind": "(many)", "flag_kind": "()", "adder_kind": "(many)", "swap_kind": "(many)",
+        "slot_kind": "(many)", "fading_kind": "(many)", "queue_kind": "(many)", "highest_kind": "(many)",
+    },
+    "teamtells.plans.telling": {
+        "seen_by": "(plan, thread, team)", "tells": "(plan)", "confusion": "(plan)", "is_confusion": "(plan, value)",
+        "first_team": "(plan, thread, answer, state)", "states_behind": "(plan, team)", "records": "(plan)",
+        "mixture": "(plan)", "is_mixture": "(plan, value)",
+    },
+    "teamtells.search.found": {
+        "candidates": "(kind, threads)", "count_candidates": "(kind, threads)", "telling_plans": "(kind, threads)",
+        "first_plan": "(kind, threads)", "can_agree": "(kind, threads)", "plan_paper": "(kind, threads)",
+        "is_plan_paper": "(kind, threads, value)", "greatest_plans": "(kind, threads)",
+    },
 }
-MADE = {
-    made.cell_kind: ("many",),
-    made.flag_kind: (),
-    made.adder_kind: ("many",),
-    made.swap_kind: ("many",),
-    made.slot_kind: ("many",),
-    made.fading_kind: ("many",),
-    made.queue_kind: ("many",),
-    made.highest_kind: ("many",),
+CLASSES = {
+    "teamtells.base.kinds": {"Kind": (
+        "(operations)", ("operations", "names", "size"), ("__contains__", "__len__", "__eq__", "__str__"),
+        {
+            "after": "(self, state, name)", "answers": "(self, name)", "reached": "(self, state)",
+            "with_operation": "(self, name, row)", "without": "(self, name)", "renamed": "(self, names)",
+            "turned": "(self, numbers)", "silent": "(self)",
+        },
+    )},
+    "teamtells.plans.plans": {"Plan": (
+        "(kind, start, first, second)", ("kind", "start", "teams", "threads"), ("__len__", "__eq__", "__str__"),
+        {
+            "team_of": "(self, thread)", "is_order": "(self, value)", "orders": "(self, *, team=None)",
+            "played": "(self, order)", "fewer": "(self, thread)", "more": "(self, team, name)",
+            "exchanged": "(self)", "normal": "(self)", "is_normal": "(self)", "renamed": "(self, names)",
+            "turned": "(self, numbers)", "mapped": "(self, other, value)",
+        },
+    )},
+    "teamtells.plans.telling": {"Watch": (
+        "(plan)", ("order", "state"), ("__len__", "__eq__", "__str__"),
+        {
+            "go": "(self, thread)", "told": "(self, thread)", "undo": "(self, *, many=1)", "twin": "(self)",
+        },
+    )},
 }
-METHODS = {
-    "after": ("state", "name"),
-    "answers": ("name",),
-    "reached": ("state",),
-    "with_operation": ("name", "row"),
-    "without": ("name",),
-    "renamed": ("names",),
-    "turned": ("numbers",),
-    "silent": (),
+CONSTANTS = {
+    "teamtells.plans.plans": {"MAX_THREADS": 6},
+    "teamtells.search.found": {"MAX_CANDIDATES": 20000},
 }
+GENERATORS = (("teamtells.search.found", "candidates"), ("teamtells.search.found", "telling_plans"))
 
 
-def arguments_of(function):
-    return tuple(inspect.signature(function).parameters)
+def signature(function):
+    return str(inspect.signature(function))
 
 
 class InterfaceTest(Case):
     def test_functions_stand_in_their_files(self):
-        for module, functions in (("teamtells.base.kinds", FUNCTIONS), ("teamtells.base.made", MADE)):
-            for function, arguments in functions.items():
-                self.assertEqual((function.__module__, arguments_of(function)), (module, arguments))
+        for module, functions in FUNCTIONS.items():
+            for name, wanted in functions.items():
+                function = getattr(importlib.import_module(module), name)
+                self.assertEqual((function.__module__, function.__name__), (module, name))
+                self.assertEqual((name, signature(function)), (name, wanted))
 
-    def test_the_class_has_its_methods_itself(self):
-        self.assertEqual(Kind.__module__, "teamtells.base.kinds")
-        self.assertEqual(arguments_of(Kind), ("operations",))
-        for name, arguments in METHODS.items():
-            self.assertEqual(arguments_of(Kind.__dict__[name]), ("self",) + arguments)
-        for name in ("operations", "names", "size"):
-            self.assertIsInstance(Kind.__dict__[name], property)
-        for name in ("__contains__", "__len__", "__eq__", "__str__"):
-            self.assertIn(name, Kind.__dict__)
+    def test_classes_have_all_that_is_listed_themselves(self):
+        for module, classes in CLASSES.items():
+            for name, (made_with, properties, operators, methods) in classes.items():
+                found = getattr(importlib.import_module(module), name)
+                self.assertEqual((found.__module__, signature(found)), (module, made_with))
+                for method, wanted in methods.items():
+                    self.assertEqual((method, signature(found.__dict__[method])), (method, wanted))
+                for attribute in properties:
+                    self.assertIsInstance(found.__dict__[attribute], property)
+                for operator in operators:
+                    self.assertIn(operator, found.__dict__)
+
+    def test_constants(self):
+        for module, constants in CONSTANTS.items():
+            for name, wanted in constants.items():
+                self.same(getattr(importlib.import_module(module), name), wanted)
+
+    def test_generators(self):
+        for module, name in GENERATORS:
+            self.assertTrue(inspect.isgeneratorfunction(getattr(importlib.import_module(module), name)))
+        self.assertTrue(inspect.isgeneratorfunction(Plan.orders))
 
 
 class SharingTest(Case):

@@ -4,9 +4,14 @@ import unittest
 
 from teamtells.base.kinds import Kind, beside, cut_kind, image_of, is_map
 from teamtells.base.made import cell_kind, fading_kind, flag_kind, queue_kind, slot_kind
+from teamtells.plans.plans import Plan
+from teamtells.plans.telling import first_team, is_confusion, is_mixture, records, seen_by, tells
+from teamtells.search.found import can_agree, count_candidates, first_plan, greatest_plans, plan_paper
 from tests.cases import Case
 
 FLAG = flag_kind()
+SLOT = slot_kind(2)
+RACE = Plan(FLAG, 0, ("set",), ("set",))
 ADD = Kind({"add": ((1, 0), (2, 1), (0, 2))})
 
 
@@ -36,6 +41,40 @@ class ExamplesTest(Case):
             [
                 ((3, 0), (2, 0), (5, 0), (4, 0), (5, 0), (5, 0)), ('joina', 'joinb', 'leave'), (1, 1), (1, 1), (0,),
             ],
+        )
+
+    def test_stage_3(self):
+        self.same(
+            [
+                list(RACE.orders(team=1)), RACE.played((1, 0)), str(RACE.more(0, "set")),
+                RACE.more(1, "set").normal().teams,
+            ],
+            [[(1,), (1, 0)], (1, {0: 1, 1: 0}), 'plan for 3 threads: set set | set', (('set',), ('set', 'set'))],
+        )
+
+    def test_stage_4(self):
+        self.same(
+            [
+                seen_by(RACE, 0, 0), seen_by(RACE, 0, 1), tells(RACE), tells(RACE.more(0, "set")),
+                is_confusion(RACE.more(0, "set"), (1, (0, 1), (2, 1))),
+            ],
+            [((0, 1),), ((1, 1),), True, False, True],
+        )
+        self.same(
+            [
+                first_team(RACE, 1, 1, 1), records(RACE), is_mixture(RACE, ("both", (0,), (1, 0))),
+                records(Plan(SLOT, 0, ("seta", "seta"), ("setb",))),
+            ],
+            [0, False, True, True],
+        )
+
+    def test_stage_5(self):
+        self.same(
+            [
+                count_candidates(SLOT, 3), str(first_plan(SLOT, 3)), can_agree(FLAG, 3), len(plan_paper(FLAG, 3)[1]),
+                [str(plan) for plan in greatest_plans(FLAG, 2)],
+            ],
+            [18, 'plan for 3 threads: seta | setb setb', False, 2, ['plan for 2 threads: set | set']],
         )
 
 

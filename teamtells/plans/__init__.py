@@ -1,0 +1,1 @@
+"""Plans, and which team a thread can tell to have gone first."""

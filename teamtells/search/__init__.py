@@ -1,0 +1,1 @@
+"""Plans that are found for a kind, and the levels of kinds."""
