@@ -9,6 +9,8 @@ from teamtells.errors import (
 )
 from teamtells.plans.plans import Plan
 from teamtells.plans.telling import Watch
+from teamtells.systems.programs import Program, System
+from teamtells.systems.runs import Run
 
 KEPT = {
     ParseError: "at",
@@ -68,12 +70,22 @@ def dicts():
     ]
 
 
+def system_objects():
+    program = Program((("do", 0, "set", {0: 1, 1: 2}), ("decide", 0), ("decide", 1)), (0, 0))
+    system = System(((flag_kind(), 0),), (program,))
+    run = Run(system, (0,))
+    return [
+        program, (program,), [program], program.rows, (program.rows, (0, 0)), system, (system,), {"system": system},
+        system.objects, list(system.objects), run, (run, run), {(0,): {run.configuration: 1}},
+    ]
+
+
 def objects():
     flag = flag_kind()
     race = Plan(flag, 0, ("set",), ("set",))
     return [
         flag, slot_kind(2), (flag,), [flag], {"set": flag}, {"set": ((0, flag),)}, (flag, slot_kind(2)),
-        race, (race,), [race, race], {"set": race}, ("plan", race), Watch(race), ((Watch(race),),),
+        race, (race,), [race, race], {"set": race}, ("plan", race), Watch(race), ((Watch(race),),), *system_objects(),
         InvalidKind("no kind"), InvalidNumber(3), [TooMany(6)],
     ]
 
@@ -102,6 +114,10 @@ def values_but_kinds():
     return [value for value in values() if not isinstance(value, Kind)]
 
 
+def values_but_systems():
+    return [value for value in values() if not isinstance(value, System)]
+
+
 def values_but_plans():
     return [value for value in values() if not isinstance(value, Plan)]
 
@@ -116,6 +132,12 @@ def shown(value):
         return f"Kind({value.operations!r})"
     if isinstance(value, Plan):
         return f"Plan({shown(value.kind)}, {value.start!r}, {value.teams!r}, {value.threads!r})"
+    if isinstance(value, Program):
+        return f"Program({shown(value.rows)}, {value.starts!r})"
+    if isinstance(value, System):
+        return f"System({shown(value.objects)}, {shown(value.programs)})"
+    if isinstance(value, Run):
+        return f"Run({value.inputs!r}, {value.trail!r}, {value.replies!r}, {value.configuration!r}, {value.decided!r})"
     if isinstance(value, Watch):
         return f"Watch({value.order!r}, {value})"
     if isinstance(value, (list, tuple)):

@@ -29,6 +29,22 @@ FUNCTIONS = {
         "first_plan": "(kind, threads)", "can_agree": "(kind, threads)", "plan_paper": "(kind, threads)",
         "is_plan_paper": "(kind, threads, value)", "greatest_plans": "(kind, threads)",
     },
+    "teamtells.search.levels": {
+        "endless_plans": "(kind)", "is_endless": "(kind)", "endless_confusion": "(kind, start, one, other)",
+        "is_endless_confusion": "(kind, start, one, other, value)", "level_of": "(kind, *, most=4)",
+        "level_paper": "(kind, *, most=4)", "is_level_paper": "(kind, value, *, most=4)",
+    },
+    "teamtells.systems.programs": {"is_rows": "(value)", "is_system": "(objects, value)"},
+    "teamtells.systems.runs": {
+        "is_configuration": "(system, value)", "first_configuration": "(system, inputs)",
+        "next_configuration": "(system, configuration, thread)",
+    },
+    "teamtells.systems.checks": {
+        "reached_moments": "(system, inputs, *, restarts=False)", "is_right": "(system, *, restarts=False)",
+        "found_fault": "(system, *, restarts=False)", "is_fault": "(system, value, *, restarts=False)",
+        "right_paper": "(system, *, restarts=False)", "is_right_paper": "(system, value, *, restarts=False)",
+        "longest": "(system)",
+    },
 }
 CLASSES = {
     "teamtells.base.kinds": {"Kind": (
@@ -54,10 +70,36 @@ CLASSES = {
             "go": "(self, thread)", "told": "(self, thread)", "undo": "(self, *, many=1)", "twin": "(self)",
         },
     )},
+    "teamtells.systems.programs": {
+        "Program": (
+            "(rows, starts)", ("rows", "starts"), ("__len__", "__eq__", "__str__"),
+            {
+                "row": "(self, index)", "rows_from": "(self, index)", "with_row": "(self, index, row)",
+                "opposite": "(self)", "on": "(self, numbers)",
+            },
+        ),
+        "System": (
+            "(objects, programs)", ("objects", "programs", "rows"), ("__len__", "__eq__", "__str__"),
+            {
+                "objects_of": "(self, thread)", "with_program": "(self, thread, program)", "opposite": "(self)",
+            },
+        ),
+    },
+    "teamtells.systems.runs": {"Run": (
+        "(system, inputs)",
+        ("system", "inputs", "configuration", "trail", "replies", "active", "decisions", "decided"),
+        ("__bool__", "__len__", "__eq__", "__str__"),
+        {
+            "go": "(self, thread)", "restart": "(self, thread)", "alone": "(self, thread, *, most=100)",
+            "follow": "(self, deeds)", "undo": "(self, *, many=1)", "twin": "(self)",
+        },
+    )},
 }
 CONSTANTS = {
     "teamtells.plans.plans": {"MAX_THREADS": 6},
     "teamtells.search.found": {"MAX_CANDIDATES": 20000},
+    "teamtells.systems.programs": {"MAX_ROWS": 160, "MAX_OBJECTS": 16, "MAX_RUNNERS": 4},
+    "teamtells.systems.checks": {"MAX_MOMENTS": 20000},
 }
 GENERATORS = (("teamtells.search.found", "candidates"), ("teamtells.search.found", "telling_plans"))
 

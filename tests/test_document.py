@@ -7,12 +7,26 @@ from teamtells.base.made import cell_kind, fading_kind, flag_kind, queue_kind, s
 from teamtells.plans.plans import Plan
 from teamtells.plans.telling import first_team, is_confusion, is_mixture, records, seen_by, tells
 from teamtells.search.found import can_agree, count_candidates, first_plan, greatest_plans, plan_paper
+from teamtells.search.levels import endless_plans, is_endless_confusion, level_of, level_paper
+from teamtells.systems.checks import found_fault, is_fault, is_right, longest, reached_moments, right_paper
+from teamtells.systems.programs import Program, System
+from teamtells.systems.runs import Run
 from tests.cases import Case
 
 FLAG = flag_kind()
 SLOT = slot_kind(2)
 RACE = Plan(FLAG, 0, ("set",), ("set",))
 ADD = Kind({"add": ((1, 0), (2, 1), (0, 2))})
+
+CELL = cell_kind(2)
+TAKE = Program(
+    (
+        ("do", 1, "puta", {0: 2}), ("do", 1, "putb", {0: 2}), ("do", 0, "set", {0: 3, 1: 5}),
+        ("read", 1, {0: 4, 1: 6}), ("decide", 0), ("read", 2, {0: 4, 1: 6}), ("decide", 1),
+    ),
+    (0, 1),
+)
+PAIR = System(((FLAG, 0), (CELL, 0), (CELL, 0)), (TAKE, TAKE.on({0: 0, 1: 2, 2: 1})))
 
 
 class ExamplesTest(Case):
@@ -76,6 +90,48 @@ class ExamplesTest(Case):
             ],
             [18, 'plan for 3 threads: seta | setb setb', False, 2, ['plan for 2 threads: set | set']],
         )
+
+    def test_stage_6(self):
+        self.same(
+            [
+                level_of(FLAG), level_of(SLOT), endless_plans(SLOT)[0], level_of(fading_kind(3)),
+                level_of(cell_kind(4)),
+                level_paper(cell_kind(1))[:3],
+            ],
+            [2, None, (0, 'seta', 'setb'), 3, 1, ('just', 1, None)],
+        )
+        self.same(
+            [
+                is_endless_confusion(FLAG, 0, "set", "set", ("oO", "pO")),
+                is_endless_confusion(FLAG, 0, "set", "set", ("O", "pO")),
+                level_of(beside(FLAG, fading_kind(2)), most=3),
+            ],
+            [True, False, 2],
+        )
+
+    def test_stage_7(self):
+        self.same(
+            [str(TAKE), PAIR.rows, str(PAIR), PAIR.objects_of(1), TAKE.rows_from(3), TAKE.opposite().starts],
+            ['program of 7 rows', 14, 'system of 2 threads, 3 objects', (0, 1, 2), (3, 4, 6), (1, 0)],
+        )
+
+    def test_stage_8(self):
+        run = Run(PAIR, (0, 1))
+        self.same(
+            [run.go(0), run.go(1), run.go(1), run.go(0), run.configuration, run.alone(0), run.decisions, str(run)],
+            [0, 0, 0, 1, ((1, 0, 1), (5, 3)), 1, (1, None), 'run of 2 threads: 5 deeds, 1 active'],
+        )
+
+    def test_stage_9(self):
+        self.same(
+            [
+                is_right(PAIR), is_right(PAIR, restarts=True), len(reached_moments(PAIR, (0, 1))), longest(PAIR),
+                found_fault(PAIR), len(right_paper(PAIR)),
+            ],
+            [True, False, 20, 6, None, 4],
+        )
+        fault = ("strange", (1, 1), (0, 0, ("restart", 0), 0, 0, 0))
+        self.same(is_fault(PAIR, fault, restarts=True), True)
 
 
 if __name__ == "__main__":

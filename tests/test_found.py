@@ -230,7 +230,8 @@ class ArgumentTest(Case):
         threads = (InvalidNumber, values_but_numbers(2, 6))
         for call in (count_candidates, first_plan, can_agree, plan_paper):
             self.refuses_each(call, (FLAG, 2), (kinds, threads))
-        for call in (lambda kind, many: next(candidates(kind, many)), lambda kind, many: next(telling_plans(kind, many))):
+        for call in (lambda kind, many: next(candidates(kind, many)), lambda kind,
+                many: next(telling_plans(kind, many))):
             self.refuses_each(call, (FLAG, 2), (kinds, threads))
         self.refuses_each(is_plan_paper, (FLAG, 2, None), (kinds, threads, None))
         self.refuses_each(greatest_plans, (FLAG, 2), (kinds, (InvalidNumber, values_but_numbers(2, 5))))

@@ -128,7 +128,8 @@ class OrderTest(Case):
 
     def test_edges_of_orders(self):
         self.same([RACE.is_order(value) for value in ((0,), (1,), (0, 1), (1, 0))], [True] * 4)
-        wrong = ((), (2,), (-1,), (0, 0), (0, 1, 0), (True, 0), (0, True), [0], [0, 1], (0, None), ((0,),), 0, "0", {0: 1})
+        wrong = ((), (2,), (-1,), (0, 0), (0, 1, 0), (True, 0), (0, True), [0], [0, 1], (0, None), ((0,),), 0, "0",
+            {0: 1})
         self.same([RACE.is_order(value) for value in wrong], [False] * len(wrong))
         self.same(RACE.is_order((SIXTY,)) or RACE.is_order((0, SIXTY_ONE)), False)
         self.same(RACE.is_order(([],)) or RACE.is_order(({}, 0)) or RACE.is_order((0, RACE)), False)

@@ -128,7 +128,8 @@ class JudgeTest(Case):
     def test_edges_of_confusions(self):
         self.same(is_confusion(CROWD, (1, (0, 1), (2, 1))), True)
         wrong = (
-            (1, (2, 1), (0, 1)), (True, (0, 1), (2, 1)), (0, (0, 1), (2, 1)), (1, (0, True), (2, 1)), [1, (0, 1), (2, 1)],
+            (1, (2, 1), (0, 1)), (True, (0, 1), (2, 1)), (0, (0, 1), (2, 1)), (1, (0, True), (2, 1)),
+            [1, (0, 1), (2, 1)],
             (1, [0, 1], (2, 1)), (1, (0, 1), [2, 1]), (1, (0, 1)), (1, (0, 1), (2, 1), ()), (1, (0, 1, 1), (2, 1)),
             (1, (0, 1), (2, 1, 3)), (3, (0, 1), (2, 1)), (None, (0, 1), (2, 1)), (1, (0,), (2, 1)), (1, (0, 1), ()),
         )
@@ -138,15 +139,18 @@ class JudgeTest(Case):
     def test_edges_of_mixtures(self):
         self.same(is_mixture(RACE, ("both", (0,), (1, 0))), True)
         wrong = (
-            ("both", (1, 0), (0,)), ("both", (0,), (0, 1)), ("back", (0,)), ("both", [0], (1, 0)), ["both", (0,), (1, 0)],
-            ("both", (0,)), ("both", (False,), (1, 0)), ("Both", (0,), (1, 0)), ("back", (0,), (1, 0)), ("back",), "back",
+            ("both", (1, 0), (0,)), ("both", (0,), (0, 1)), ("back", (0,)), ("both", [0], (1, 0)),
+            ["both", (0,), (1, 0)],
+            ("both", (0,)), ("both", (False,), (1, 0)), ("Both", (0,), (1, 0)), ("back", (0,), (1, 0)), ("back",),
+            "back",
         )
         for value in wrong:
             self.same(is_mixture(RACE, value), False)
         cell = Plan(cell_kind(1), 0, ("puta",), ("puta",))
         for order in ((0,), (1,), (0, 1), (1, 0)):
             self.same(is_mixture(cell, ("back", order)), True)
-        for value in (("back", ()), ("back", (0, 0)), ("back", [0]), ("back", (False,)), ("back", (2,)), ("both", (0,))):
+        for value in (("back", ()), ("back", (0, 0)), ("back", [0]), ("back", (False,)), ("back", (2,)),
+                ("both", (0,))):
             self.same(is_mixture(cell, value), False)
 
     def test_starts_to_which_an_order_leads_back(self):

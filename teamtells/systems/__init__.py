@@ -1,0 +1,1 @@
+"""Systems of programs, their runs, and whether they are right."""
