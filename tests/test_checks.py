@@ -6,7 +6,7 @@ import unittest
 from teamtells.base.made import adder_kind
 from teamtells.errors import InvalidInputs, InvalidOperation, InvalidSystem, TooMany
 from teamtells.systems.checks import (
-    MAX_MOMENTS, found_fault, is_fault, is_right, is_right_paper, longest, reached_moments, right_paper,
+    MAX_MOMENTS, found_fault, is_fault, is_right, is_right_paper, longest, reach_of, reached_moments, right_paper,
 )
 from teamtells.systems.programs import Program, System
 from tests.cases import SIXTY, SIXTY_ONE, Case, shown, values, values_but, values_but_systems
@@ -173,6 +173,22 @@ class RightTest(Case):
         self.same(len(self.short(System(counters(300), (there,)), "round")[3]), 1)
         here = Program((("read", 3, {0: 0, 1: 1}), *shifted(LONG, 0, 1)), (0, 0))
         self.same(len(self.short(System(COUNTERS + ((CELL, 0),), (here, WAKER)), "round")[3]), 1)
+
+    def test_a_moment_between_rounds(self):
+        # Without the other thread the first one comes to a round late, and then by row 7 to the other round; with it,
+        # it comes to row 7 at once.
+        moves = ({0: 1, 1: 7}, {0: 2, 1: 2}, {0: 3, 1: 3}, {0: 4, 1: 4}, {0: 5, 1: 7}, {0: 6, 1: 4}, {0: 4, 1: 4},
+                 {0: 8, 1: 8}, {0: 9, 1: 9}, {0: 9, 1: 9})
+        rows = tuple(("read", 0, move) for move in moves)
+        system = System(((CELL, 0),), (Program(rows, (0, 0)), WAKER.on({3: 0})))
+        fault = reach_of(system, (0, 0), False).fault()
+        self.same((fault[0], is_fault(system, fault)), ("round", True))
+
+    def test_short_rounds_beside_decisions_behind_many_deeds(self):
+        for many in (901, 1000):
+            system = System(counters(many) + ((CELL, 0),), (COUNTDOWN, spinning(2)))
+            fault = reach_of(system, (1, 1), False).fault()
+            self.same((fault[0], len(fault[2]), len(fault[3]), is_fault(system, fault)), ("round", 2, 1, True))
 
     def test_a_long_round_alone(self):
         system = System(COUNTERS, (LONG,))

@@ -116,7 +116,7 @@ class Reach:
         cut = {}
         core = self._core(cut)
         while core:
-            # Moments are numbered by their deeds: there are no fewer to any other one.
+            # Moments are numbered as they are met, so that none of the core has fewer deeds ahead.
             home = core[0]
             deeds = self._deeds(home)
             ring = self._ring(home, core)
