@@ -141,7 +141,8 @@ class Reach:
         ready = [number for number, many in enumerate(ahead) if many == 0 and heights[number] is None]
         met = {number: True for number in ready}
         while ready:
-            for other in self._endless_behind(ready.pop(), heights):
+            number = ready.pop()
+            for other in self._endless_behind(number, heights):
                 ahead[other] -= 1
                 if ahead[other] == 0:
                     ready.append(other)
