@@ -53,14 +53,23 @@ class Reach:
 
     def height(self):
         """The greatest number of steps from the first moment on, or None if a moment or a round shows a fault."""
-        return None if self._is_wrong() else self._heights({})[0]
+        heights = self._right_heights()
+        return None if heights is None else heights[0]
 
     def paper(self):
         """A dict from all moments, ascending, to the greatest number of steps from each of them on, or None."""
-        heights = self._heights({})
-        if self._is_wrong() or None in heights:
+        heights = self._right_heights()
+        if heights is None:
             return None
         return {moment: heights[self._numbers[moment]] for moment in self.moments()}
+
+    def _right_heights(self):
+        """For each moment the greatest number of steps from it on, or None if a moment or a round shows a fault."""
+        if self._is_wrong():
+            return None
+        # All moments are asked: a round behind a restart alone is none that steps reach from the first one.
+        heights = self._heights({})
+        return None if None in heights else heights
 
     def _is_wrong(self):
         """Whether the decisions of some moment are wrong."""
