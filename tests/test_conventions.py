@@ -45,6 +45,19 @@ FUNCTIONS = {
         "right_paper": "(system, *, restarts=False)", "is_right_paper": "(system, value, *, restarts=False)",
         "longest": "(system)",
     },
+    "teamtells.systems.critical": {
+        "decisions_ahead": "(system, inputs, way)", "is_open": "(system, inputs, way)",
+        "is_critical": "(system, inputs, way)", "critical_way": "(system)", "is_critical_way": "(system, value)",
+        "plan_at": "(system, inputs, way)",
+    },
+    "teamtells.make.makers": {
+        "made_system": "(plan)", "lasting_system": "(plan)", "agreeing_system": "(kind, threads)",
+        "is_made_of": "(system, value)",
+    },
+    "teamtells.make.changes": {
+        "without_thread": "(system, thread)", "reordered": "(system, objects, threads)",
+        "pulled_back": "(system, index, kind, state, value)", "shortened": "(system)", "spread": "(system)",
+    },
 }
 CLASSES = {
     "teamtells.base.kinds": {"Kind": (

@@ -4,11 +4,14 @@ import unittest
 
 from teamtells.base.kinds import Kind, beside, cut_kind, image_of, is_map
 from teamtells.base.made import cell_kind, fading_kind, flag_kind, queue_kind, slot_kind
+from teamtells.make.changes import pulled_back, reordered, shortened, spread, without_thread
+from teamtells.make.makers import agreeing_system, lasting_system, made_system
 from teamtells.plans.plans import Plan
 from teamtells.plans.telling import first_team, is_confusion, is_mixture, records, seen_by, tells
 from teamtells.search.found import can_agree, count_candidates, first_plan, greatest_plans, plan_paper
 from teamtells.search.levels import endless_plans, is_endless_confusion, level_of, level_paper
 from teamtells.systems.checks import found_fault, is_fault, is_right, longest, reached_moments, right_paper
+from teamtells.systems.critical import decisions_ahead, is_critical, is_open, plan_at
 from teamtells.systems.programs import Program, System
 from teamtells.systems.runs import Run
 from tests.cases import Case
@@ -132,6 +135,35 @@ class ExamplesTest(Case):
         )
         fault = ("strange", (1, 1), (0, 0, ("restart", 0), 0, 0, 0))
         self.same(is_fault(PAIR, fault, restarts=True), True)
+
+    def test_stage_10(self):
+        self.same(
+            [
+                decisions_ahead(PAIR, (0, 1), (0, 0)), is_open(PAIR, (0, 1), (0,)), is_critical(PAIR, (0, 1), (1, 0)),
+                plan_at(PAIR, (0, 1), (0, 1))[1] == RACE, plan_at(PAIR, (1, 0), (1, 0))[2],
+            ],
+            [(0,), True, True, True, (1, 0)],
+        )
+
+    def test_stage_11(self):
+        self.same(
+            [
+                is_right(made_system(RACE)), is_right(agreeing_system(SLOT, 2)),
+                is_right(lasting_system(Plan(SLOT, 0, ("seta",), ("setb",))), restarts=True),
+                len(agreeing_system(FLAG, 1).objects),
+            ],
+            [True, True, True, 0],
+        )
+
+    def test_stage_12(self):
+        loose = Kind({"set": ((1, 0), (2, 1), (2, 1))})
+        self.same(
+            [
+                str(without_thread(PAIR, 0)), is_right(pulled_back(PAIR, 0, loose, 0, (0, 1, 1))),
+                shortened(PAIR) == PAIR, spread(PAIR).rows, is_right(reordered(PAIR, (2, 0, 1), (1, 0))),
+            ],
+            ['system of 1 threads, 3 objects', True, True, 28, True],
+        )
 
 
 if __name__ == "__main__":

@@ -81,11 +81,7 @@ def is_fault(system, value, *, restarts=False):
 
 def _is_done(run, deeds, restarts):
     """Whether the value is a tuple of deeds, not too many, that the run could do, and did."""
-    if not isinstance(deeds, tuple) or len(deeds) > MOST_FAULT_DEEDS:
-        return False
-    if not restarts and any([isinstance(deed, tuple) for deed in deeds]):
-        return False
-    return run.tried(deeds)
+    return isinstance(deeds, tuple) and len(deeds) <= MOST_FAULT_DEEDS and run.tried(deeds, restarts)
 
 
 def _is_round(run, threads):

@@ -88,10 +88,7 @@ class Reach:
         """
         heights = [None] * len(self._moments)
         left = [0 if number in cut else len(behind) for number, behind in enumerate(self._behind)]
-        ahead = [[] for _ in self._moments]
-        for number, behind in enumerate(self._behind):
-            for _, other in behind:
-                ahead[other].append(number)
+        ahead = self._ahead()
         ready = [number for number, many in enumerate(left) if many == 0]
         while ready:
             number = ready.pop()
@@ -102,6 +99,34 @@ class Reach:
                 if left[other] == 0:
                     ready.append(other)
         return heights
+
+    def _ahead(self):
+        """For each moment those from which a step leads to it."""
+        ahead = [[] for _ in self._moments]
+        for number, behind in enumerate(self._behind):
+            for _, other in behind:
+                ahead[other].append(number)
+        return ahead
+
+    def critical_way(self):
+        """A shortest way to a moment that is open, and is not behind any step more, or None."""
+        leading = [self._leading_to(decision) for decision in (0, 1)]
+        for number, behind in enumerate(self._behind):
+            if _is_open(leading, number) and not any([_is_open(leading, other) for _, other in behind]):
+                return self._deeds(number)
+        return None
+
+    def _leading_to(self, decision):
+        """A dict with the moments at which there is a decision, or from which steps lead to it."""
+        ahead = self._ahead()
+        waiting = [number for number, moment in enumerate(self._moments) if decision in moment[2]]
+        met = {number: True for number in waiting}
+        while waiting:
+            for number in ahead[waiting.pop()]:
+                if number not in met:
+                    met[number] = True
+                    waiting.append(number)
+        return met
 
     def fault(self):
         """A fault, or None. It is a short one, as MOST_DEEDS tells, if there is one."""
@@ -195,3 +220,8 @@ class Reach:
             number, deed = self._ways[number]
             deeds.append(deed)
         return tuple(deeds[::-1])
+
+
+def _is_open(leading, number):
+    """Whether steps lead from a moment to each of the decisions."""
+    return all([number in met for met in leading])

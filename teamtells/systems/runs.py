@@ -83,6 +83,11 @@ class Run:
         return self._moments[-1][:2]
 
     @property
+    def moment(self):
+        """The configuration now, and the decisions of all times, as one triple."""
+        return self._moments[-1]
+
+    @property
     def trail(self):
         """The deeds that were done."""
         return tuple(self._trail)
@@ -134,17 +139,20 @@ class Run:
     def follow(self, deeds):
         """Do all deeds; what each of them told."""
         before = len(self._trail)
-        if not self.tried(deeds):
+        if not self.tried(deeds, True):
             self._take_back(len(self._trail) - before)
             raise InvalidOperation("not a tuple of deeds that can be done")
         return tuple(self._replies[before:])
 
-    def tried(self, deeds):
-        """Do deeds up to the first one that cannot be done; whether all were done, and were a tuple."""
+    def tried(self, deeds, restarts):
+        """Do deeds up to the first one that cannot be done; whether all were done, and were a tuple.
+
+        Restarts cannot be done unless they are let.
+        """
         if not isinstance(deeds, tuple):
             return False
         for deed in deeds:
-            if not self._can_do(deed):
+            if not restarts and isinstance(deed, tuple) or not self._can_do(deed):
                 return False
             self._done(deed)
         return True
