@@ -4,13 +4,16 @@ import unittest
 
 from teamtells.base.kinds import Kind
 from teamtells.base.made import flag_kind, slot_kind
+from teamtells.desk.desk import Desk
 from teamtells.errors import (
     InvalidKind, InvalidNumber, NothingToUndo, ParseError, Refused, TooMany, UnknownName,
 )
 from teamtells.plans.plans import Plan
 from teamtells.plans.telling import Watch
+from teamtells.sets.sets import Choice
 from teamtells.systems.programs import Program, System
 from teamtells.systems.runs import Run
+from teamtells.text.shell import Shell
 
 KEPT = {
     ParseError: "at",
@@ -80,12 +83,21 @@ def system_objects():
     ]
 
 
+def objects_of_last_stages():
+    choice, desk, shell = Choice(2), Desk(), Shell()
+    choice.put(flag_kind())
+    desk.enter("set", flag_kind())
+    shell("enter set set 1/0 1/1")
+    return [choice, (choice,), desk, [desk], {"set": desk}, ("enter", "set", desk), shell, (shell, shell)]
+
+
 def objects():
     flag = flag_kind()
     race = Plan(flag, 0, ("set",), ("set",))
     return [
         flag, slot_kind(2), (flag,), [flag], {"set": flag}, {"set": ((0, flag),)}, (flag, slot_kind(2)),
         race, (race,), [race, race], {"set": race}, ("plan", race), Watch(race), ((Watch(race),),), *system_objects(),
+        *objects_of_last_stages(),
         InvalidKind("no kind"), InvalidNumber(3), [TooMany(6)],
     ]
 
@@ -138,6 +150,12 @@ def shown(value):
         return f"System({shown(value.objects)}, {shown(value.programs)})"
     if isinstance(value, Run):
         return f"Run({value.inputs!r}, {value.trail!r}, {value.replies!r}, {value.configuration!r}, {value.decided!r})"
+    if isinstance(value, Choice):
+        return f"Choice({value.goal!r}, {shown(value.kinds)}, {value.leader!r})"
+    if isinstance(value, Desk):
+        return f"Desk({shown(value.kinds)}, {shown(value.grades)}, {shown(value.pins)})"
+    if isinstance(value, Shell):
+        return f"Shell({shown(value.desk())}, {len(value)})"
     if isinstance(value, Watch):
         return f"Watch({value.order!r}, {value})"
     if isinstance(value, (list, tuple)):

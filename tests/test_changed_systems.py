@@ -111,9 +111,9 @@ class ReorderedTest(Case):
                     other = reordered(system, objects, threads)
                     self.same(other.objects, tuple(system.objects[old] for old in objects))
                     for new, old in enumerate(threads):
-                        program = system.programs[old]
-                        self.same((other.programs[new].starts, len(other.programs[new])), (program.starts, len(program)))
-                        for row, before in zip(other.programs[new].rows, program.rows):
+                        program, found = system.programs[old], other.programs[new]
+                        self.same((found.starts, len(found)), (program.starts, len(program)))
+                        for row, before in zip(found.rows, program.rows):
                             if before[0] == "decide":
                                 self.same(row, before)
                             else:
@@ -236,7 +236,10 @@ class PulledBackTest(Case):
 
 class ShortenedTest(Case):
     def test_rows_that_are_left_out(self):
-        rows = (("decide", 0), ("read", 0, {0: 3, 1: 4}), ("decide", 1), ("read", 0, {0: 0, 1: 2}), ("read", 0, {0: 2, 1: 1}))
+        rows = (
+            ("decide", 0), ("read", 0, {0: 3, 1: 4}), ("decide", 1), ("read", 0, {0: 0, 1: 2}),
+            ("read", 0, {0: 2, 1: 1}),
+        )
         system = System(((CELL, 0),), (Program(rows, (1, 3)),))
         # From both inputs the thread comes to the rows 1, 3 and 0 only.
         short = shortened(system)
@@ -394,7 +397,8 @@ class StateTest(Case):
         system = System(PAIR.objects, PAIR.programs)
         before = shown(system)
         calls = [
-            (InvalidNumber, 2, without_thread, (system, 2)), (InvalidOperation, None, reordered, (system, (0,), (0, 1))),
+            (InvalidNumber, 2, without_thread, (system, 2)),
+            (InvalidOperation, None, reordered, (system, (0,), (0, 1))),
             (InvalidOperation, None, reordered, (system, (0, 1, 2), (0,))),
             (InvalidOperation, None, pulled_back, (system, 0, LOOSE, 0, (0, 1, 2))),
             (InvalidNumber, 7, pulled_back, (system, 7, LOOSE, 0, (0, 1, 1))),

@@ -58,6 +58,16 @@ FUNCTIONS = {
         "without_thread": "(system, thread)", "reordered": "(system, objects, threads)",
         "pulled_back": "(system, index, kind, state, value)", "shortened": "(system)", "spread": "(system)",
     },
+    "teamtells.sets.sets": {
+        "best_level": "(kinds, *, most=4)", "level_classes": "(kinds, *, most=4)",
+        "can_agree_by": "(kinds, threads)", "sufficient": "(kinds, threads)", "agreement_paper": "(kinds, threads)",
+        "is_agreement_paper": "(kinds, threads, value)", "hopeless_paper": "(system)",
+        "is_hopeless_paper": "(system, value)",
+    },
+    "teamtells.text.texts": {
+        "write_kind": "(kind)", "write_plan": "(plan)", "write_program": "(program)", "read_kind": "(text)",
+        "read_plan": "(kind, text)", "read_program": "(text)",
+    },
 }
 CLASSES = {
     "teamtells.base.kinds": {"Kind": (
@@ -107,12 +117,32 @@ CLASSES = {
             "follow": "(self, deeds)", "undo": "(self, *, many=1)", "twin": "(self)",
         },
     )},
+    "teamtells.sets.sets": {"Choice": (
+        "(threads)", ("kinds", "goal", "leader"), ("__bool__", "__len__", "__eq__", "__str__"),
+        {
+            "put": "(self, kind)", "drop": "(self, index)", "undo": "(self, *, many=1)", "twin": "(self)",
+        },
+    )},
+    "teamtells.desk.desk": {"Desk": (
+        "()", ("kinds", "grades", "pins"),
+        ("__getitem__", "__contains__", "__iter__", "__len__", "__eq__", "__str__"),
+        {
+            "enter": "(self, name, kind)", "remove": "(self, name)", "cut_off": "(self, name, operation)",
+            "hush": "(self, name)", "put_beside": "(self, name, one, other)", "pin": "(self, pin)",
+            "unpin": "(self, pin)", "trial": "(self, *changes)", "undo": "(self, *, many=1)",
+            "redo": "(self, *, many=1)", "twin": "(self)",
+        },
+    )},
+    "teamtells.text.shell": {"Shell": (
+        "()", (), ("__call__", "__len__", "__str__"), {"__call__": "(self, command)", "desk": "(self)"},
+    )},
 }
 CONSTANTS = {
     "teamtells.plans.plans": {"MAX_THREADS": 6},
     "teamtells.search.found": {"MAX_CANDIDATES": 20000},
     "teamtells.systems.programs": {"MAX_ROWS": 160, "MAX_OBJECTS": 16, "MAX_RUNNERS": 4},
     "teamtells.systems.checks": {"MAX_MOMENTS": 20000},
+    "teamtells.desk.desk": {"MAX_KINDS": 8, "MAX_PINS": 8},
 }
 GENERATORS = (("teamtells.search.found", "candidates"), ("teamtells.search.found", "telling_plans"))
 

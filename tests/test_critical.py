@@ -289,7 +289,8 @@ class JudgeTest(Case):
         self.same(is_critical_way(system, ((0, 1), (0,) * 2000)), False)
 
     def test_the_judge_has_no_limit_of_moments(self):
-        system = System(PAIR.objects + ((FLAG, 0),), (long_take(TAKE, 140), long_take(TAKE.on({0: 0, 1: 2, 2: 1}), 151)))
+        programs = (long_take(TAKE, 140), long_take(TAKE.on({0: 0, 1: 2, 2: 1}), 151))
+        system = System(PAIR.objects + ((FLAG, 0),), programs)
         self.refuses(TooMany, 20000, reached_moments, system, (0, 1))
         way = (0,) * 141 + (1,) * 152
         self.same([is_critical_way(system, ((0, 1), part)) for part in (way, way[1:], way[:-1], (), way + (0,))],

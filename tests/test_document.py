@@ -10,10 +10,13 @@ from teamtells.plans.plans import Plan
 from teamtells.plans.telling import first_team, is_confusion, is_mixture, records, seen_by, tells
 from teamtells.search.found import can_agree, count_candidates, first_plan, greatest_plans, plan_paper
 from teamtells.search.levels import endless_plans, is_endless_confusion, level_of, level_paper
+from teamtells.sets.sets import agreement_paper, best_level, can_agree_by, level_classes, sufficient
 from teamtells.systems.checks import found_fault, is_fault, is_right, longest, reached_moments, right_paper
 from teamtells.systems.critical import decisions_ahead, is_critical, is_open, plan_at
 from teamtells.systems.programs import Program, System
 from teamtells.systems.runs import Run
+from teamtells.text.shell import Shell
+from teamtells.text.texts import read_plan, write_kind, write_plan, write_program
 from tests.cases import Case
 
 FLAG = flag_kind()
@@ -164,6 +167,41 @@ class ExamplesTest(Case):
             ],
             ['system of 1 threads, 3 objects', True, True, 28, True],
         )
+
+    def test_stage_13(self):
+        three = (FLAG, cell_kind(2), SLOT)
+        self.same(
+            [
+                best_level(three), best_level(three[:2]), level_classes(three), sufficient(three, 3),
+                agreement_paper(three[:2], 2)[:2], can_agree_by(three[:2], 3),
+            ],
+            [None, 2, ((1, (1,)), (2, (0,)), (None, (2,))), (2,), ('plan', 0), False],
+        )
+
+    def test_stage_14(self):
+        self.same(
+            [
+                write_kind(FLAG), write_plan(RACE.more(0, "set")), read_plan(FLAG, "0: set | set") == RACE,
+                write_program(Program((("decide", 0), ("decide", 1)), (0, 1))),
+            ],
+            ['set 1/0 1/1', '0: set, set | set', True, '0 1; decide 0; decide 1'],
+        )
+        shell = Shell()
+        self.same(
+            [
+                shell("enter flag set 1/0 1/1"), shell("grade flag"), shell("plan flag 2"), shell("plan flag 3"),
+                shell("pin least flag 3"), shell("show nobody"), len(shell),
+            ],
+            ['flag 0 2', '2', '0: set | set', 'none', 'refused least flag 3', 'unknown nobody', 4],
+        )
+
+    def test_texts_that_are_named(self):
+        both = Kind({"set": ((1, 0), (1, 1)), "add": ((1, 0), (0, 1))})
+        self.same(write_kind(ADD), "add 1/0 2/1 0/2")
+        self.same(write_plan(Plan(both, 0, ("set", "set"), ("add",))), "0: set, set | add")
+        rows = (("do", 0, "set", {0: 2, 1: 3}), ("read", 1, {0: 2, 1: 2}), ("decide", 0))
+        text = "0 1; do 0 set 0:2 1:3; read 1 0:2 1:2; decide 0"
+        self.same(write_program(Program(rows + (("decide", 1),), (0, 1))), text + "; decide 1")
 
 
 if __name__ == "__main__":

@@ -50,7 +50,7 @@ def plans_that_tell():
 PLANS = plans_that_tell()
 RECORDING = [
     plan for plan in parted_plans(3) + some_plans(113, KINDS, 30, 2, 3) + PLANS if records(plan)
-][:60]
+][:40]
 
 
 def most_steps(program):
@@ -158,11 +158,12 @@ class LastingTest(SystemCase):
             sorts.add((len(plan.teams[0]), len(plan.teams[1])))
             self.made_well(lasting_system(plan), plan, True)
         self.same(sorted(sorts), [(1, 1), (1, 2), (2, 1)])
-        self.assertGreater(len(RECORDING), 40)
+        self.assertGreater(len(RECORDING), 30)
 
     def test_three_threads_with_restarts(self):
         for plan, inputs in (
-            (Plan(SLOT, 0, ("seta", "seta"), ("setb",)), (0, 1, 1)), (Plan(SLOT, 0, ("setb",), ("seta",) * 2), (0, 0, 1)),
+            (Plan(SLOT, 0, ("seta", "seta"), ("setb",)), (0, 1, 1)),
+            (Plan(SLOT, 0, ("setb",), ("seta", "seta")), (0, 0, 1)),
             (Plan(fading_kind(3), 0, ("seta",), ("setb", "setb")), (1, 0, 1)),
         ):
             self.assertTrue(Roads(lasting_system(plan), inputs, True).is_right())

@@ -4,15 +4,13 @@ from teamtells.errors import InvalidOperation
 from teamtells.plans.plans import Plan
 from teamtells.systems.checks import all_inputs, reach_of
 from teamtells.systems.programs import need_system
-from teamtells.systems.runs import Run, are_inputs, need_inputs
+from teamtells.systems.runs import Run, are_inputs
 
 MOST_WAY = 2000
 
 
 def _moment_behind(system, inputs, way):
     """The moment behind a way: TooMany if too many moments are reached with the inputs."""
-    need_system(system)
-    need_inputs(system, inputs)
     run = Run(system, inputs)
     if not run.tried(way, False):
         raise InvalidOperation("not a tuple of threads whose steps can be done")

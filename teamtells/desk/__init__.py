@@ -1,0 +1,1 @@
+"""Desks: kinds by names, and pins that hold at all times."""

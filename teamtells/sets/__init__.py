@@ -1,0 +1,1 @@
+"""Several kinds that threads can use together."""

@@ -1,0 +1,1 @@
+"""Texts of kinds, plans and programs, and a shell that works with them."""
