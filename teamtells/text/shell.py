@@ -3,9 +3,7 @@
 from teamtells.base.kinds import is_name
 from teamtells.desk.desk import Desk
 from teamtells.desk.pins import TOP_GRADE
-from teamtells.errors import (
-    InvalidOperation, NothingToUndo, ParseError, Refused, TooMany, UnknownName,
-)
+from teamtells.errors import InvalidOperation, NothingToUndo, ParseError, Refused, TooMany, UnknownName
 from teamtells.plans.plans import MAX_THREADS
 from teamtells.plans.telling import confusion, tells
 from teamtells.search.found import first_plan
