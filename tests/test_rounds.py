@@ -1,14 +1,16 @@
-"""Rounds that are reached behind restarts [9.2]: is_right, found_fault and right_paper say the same of them."""
+"""Rounds [9.2]: is_right, found_fault and right_paper say the same of those behind restarts; short ones are found."""
 
 import random
 import unittest
 
 from teamtells.base.made import adder_kind
 from teamtells.errors import InvalidOperation
-from teamtells.systems.checks import found_fault, is_fault, is_right, is_right_paper, longest, right_paper
+from teamtells.systems.checks import (
+    found_fault, is_fault, is_right, is_right_paper, longest, reach_of, right_paper,
+)
 from teamtells.systems.programs import Program, System
 from tests.cases import Case
-from tests.systems import FLAG, SLOT, Explored, inputs_of, some_system
+from tests.systems import FLAG, SLOT, Explored, first_moment, inputs_of, restarted, some_system, stepped
 
 # Each thread sets a slot to its input at rows 0 and 1, and decides for what it holds.
 CLAIM_ROWS = (("do", 0, "seta", {1: 2, 2: 3}), ("do", 0, "setb", {1: 2, 2: 3}), ("decide", 0), ("decide", 1))
@@ -55,6 +57,33 @@ def drawn_systems():
     return found
 
 
+def moment_behind(system, inputs, deeds):
+    moment = first_moment(system, inputs)
+    for deed in deeds:
+        if isinstance(deed, tuple):
+            moment = restarted(system, moment, deed[1], inputs)
+        else:
+            moment = stepped(system, moment, deed)[0]
+    return moment
+
+
+def shortest_round(system, home):
+    """The number of steps of a shortest round at a moment, by all moments behind one step, two steps, and so on."""
+    many, met, behind = 0, set(), {home}
+    while behind and home not in met:
+        steps = [stepped(system, moment, thread) for moment in behind for thread in range(len(system))]
+        behind = {step[0] for step in steps if step is not None} - met
+        met |= behind
+        many += 1
+    return many if home in met else None
+
+
+def circling(many):
+    """A program that goes through so many rows, and begins again."""
+    behind = [(row + 1) % many for row in range(many)]
+    return Program(tuple(("read", 0, {0: row, 1: row}) for row in behind), (0, 0))
+
+
 class RoundsTest(Case):
     def agreed(self, system, restarts):
         """What all three say is what a plain walk through all moments says; that walk."""
@@ -82,6 +111,24 @@ class RoundsTest(Case):
         # Systems whose only rounds are reached behind restarts are there, and such that are right with restarts.
         self.assertGreater(min(behind_restarts), 10)
         self.assertGreater(min(right), 10)
+
+    def test_rounds_that_are_found_are_shortest_ones(self):
+        lengths = set()
+        for system in drawn_systems():
+            for restarts in (False, True):
+                for inputs in inputs_of(system):
+                    fault = reach_of(system, inputs, restarts).fault()
+                    if fault is not None and fault[0] == "round":
+                        home = moment_behind(system, inputs, fault[2])
+                        self.same(len(fault[3]), shortest_round(system, home))
+                        lengths.add(len(fault[3]))
+        self.same(sorted(lengths)[:2], [1, 2])
+
+    def test_a_short_round_beside_a_longer_one(self):
+        for first, second in ((2, 5), (5, 2), (3, 4), (4, 3), (1, 6), (6, 1)):
+            fault = found_fault(System(((FLAG, 0),), (circling(first), circling(second))))
+            least = min(first, second)
+            self.same(fault[2:], ((), (0 if least == first else 1,) * least))
 
     def test_behind_a_restart_of_another_thread(self):
         # The second thread waits for ever if the counter is at 2, to which the first one adds twice with a restart.

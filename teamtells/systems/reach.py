@@ -196,7 +196,8 @@ class Reach:
         waiting = [home]
         while waiting and home not in ways:
             found = []
-            for number in waiting:
+            # A copy is walked, as the list that grows here is the one that waits from the next time on.
+            for number in list(waiting):
                 for thread, other in self._behind[number]:
                     if other in inside and other not in ways:
                         ways[other] = (number, thread)
